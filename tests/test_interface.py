@@ -9,12 +9,23 @@ from pathlib import Path
 PACKAGE = Path(__file__).resolve().parent.parent / "evenhands"
 
 # In the order of the stages: a file uses only those ahead of it.
-FILES = ("errors", "groups", "calls")
+FILES = ("errors", "groups", "calls", "rising", "matchings", "plans")
 FUNCTIONS = {
     "groups": {"is_name": "(thing)"},
     "calls": {
         "gain": "(group, one, other)", "called": "(group, one, other)",
         "may": "(group, one, other)", "behind": "(group, calls)", "signs_against": "(group)",
+    },
+    "rising": {
+        "weights_of": "(group, calls)", "rising": "(group, calls)", "heights": "(group, calls)",
+        "are_one": "(group, calls, others)",
+    },
+    "matchings": {
+        "least_ones": "(group)", "matchings": "(group)", "parts": "(group, some)",
+        "barrier": "(group)",
+    },
+    "plans": {
+        "plan": "(group, *, by='calls')", "how_many": "(group)", "rounds_of": "(group, levels)",
     },
 }
 CLASSES = {

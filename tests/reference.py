@@ -1,0 +1,134 @@
+"""What the document says of matchings and plans, worked out anew: slowly, and by groups alone."""
+
+from itertools import combinations
+from random import Random
+
+from evenhands.calls import behind, called, may
+from evenhands.groups import Group
+
+
+def page_each(many):
+    """So many people with a page each of one leaf, called like them."""
+    return Group({letter: [letter] for letter in "abcdef"[:many]})
+
+
+def joined_by(people, joined):
+    """A group with a page each, in which just these pairs may call."""
+    pairs = [pair for pair in combinations(people, 2) if pair not in joined]
+    return Group({person: [person] for person in people}, barred=pairs)
+
+
+def many_groups(many, seed):
+    """So many groups of all sizes, alike each time; most of them with a plan or some calls."""
+    chance = Random(seed)
+    for _ in range(many):
+        people = "abcdef"[:chance.choice((1, 2, 3, 4, 4, 4, 5, 6, 6))]
+        pages = "uvwxyz"[:chance.randint(1, 6)]
+        most = chance.choice((1, 1, 2, 3))
+        held = {person: [page for page in pages if chance.random() < 0.4] for person in people}
+        for some in held.values():
+            if not some:
+                some.append(chance.choice(pages))
+        there = sorted({page for some in held.values() for page in some})
+        barred = [pair for pair in combinations(people, 2) if chance.random() < 0.08]
+        yield Group(held, leaves={page: chance.randint(1, most) for page in there}, barred=barred)
+
+
+def row_of_calls(group, seed):
+    """A row of even calls as chance has it, until there is none."""
+    chance = Random(seed)
+    calls = []
+    while True:
+        pairs = [(one, other) for one in group.people() for other in group.people()
+                 if may(group, one, other)]
+        if not pairs:
+            return calls
+        calls.append(chance.choice(pairs))
+        group = called(group, *calls[-1])
+
+
+def least_of(group):
+    lacking = [person for person in group.people() if person not in group.holders()]
+    return [one for one in lacking
+            if all(group.weight(one) <= group.weight(other) for other in lacking)]
+
+
+def matchings_of(group):
+    least = least_of(group)
+    pairs = [pair for pair in combinations(least, 2) if may(group, *pair)]
+    return sorted(some for some in combinations(pairs, len(least) // 2)
+                  if sorted(person for pair in some for person in pair) == least)
+
+
+def parts_of(group, some):
+    left = [person for person in least_of(group) if person not in some]
+    lots = {person: {person} for person in left}
+    for one, other in combinations(left, 2):
+        if may(group, one, other):
+            for person in lots[one] | lots[other]:
+                lots[person] = lots[one] | lots[other] | lots[person]
+    for _ in left:
+        for person in left:
+            for other in sorted(lots[person]):
+                lots[other] = lots[other] | lots[person]
+    return sorted({tuple(sorted(lot)) for lot in lots.values()})
+
+
+def barrier_of(group):
+    if matchings_of(group):
+        return None
+    least = least_of(group)
+    for many in range(len(least) + 1):
+        for some in combinations(least, many):
+            if sum(len(part) % 2 for part in parts_of(group, some)) > many:
+                return some
+    raise AssertionError("there is always one")
+
+
+def plans_of(group):
+    """All plans."""
+    if group.shared():
+        return [()]
+    return [(matching, *levels) for matching in matchings_of(group)
+            for levels in plans_of(behind(group, matching))]
+
+
+def rounds_by_hand(levels):
+    """The rounds of a plan, call by call."""
+    laid = []
+    for pair in [pair for matching in levels for pair in matching]:
+        ahead = [at for at, other in laid if set(other) & set(pair)]
+        laid.append((max(ahead, default=-1) + 1, pair))
+    many = max([at for at, _ in laid], default=-1) + 1
+    return [tuple(sorted(pair for at, pair in laid if at == end)) for end in range(many)]
+
+
+def calls_in(levels):
+    return sum(len(matching) for matching in levels)
+
+
+def best_plan(group, by):
+    """The levels that plan should tell, of all plans; None where there is none."""
+    rows = []
+    for levels in plans_of(group):
+        counts = (calls_in(levels), len(rounds_by_hand(levels)))
+        rows.append((counts if by == "calls" else counts[::-1], levels))
+    return min(rows)[1] if rows else None
+
+
+def with_state(group, state):
+    """The group in which the people hold what this state tells."""
+    held = dict(zip(group.people(), state))
+    leaves = {page: group.leaves(page) for page in group.pages()}
+    return Group(held, leaves=leaves, barred=group.barred())
+
+
+def paper_of(group):
+    """The paper, state by state, whether there is a plan or not."""
+    rows = {}
+    ahead = [group]
+    while ahead:
+        now = ahead.pop()
+        rows[now.state()] = barrier_of(now)
+        ahead.extend(behind(now, matching) for matching in matchings_of(now) if matching)
+    return {state: rows[state] for state in sorted(rows)}
