@@ -26,17 +26,22 @@ def is_pair(thing):
     return isinstance(thing, tuple) and len(thing) == 2
 
 
-def rising_pair(one, other):
-    """The pair of two names, the lesser one ahead."""
-    return (min(one, other), max(one, other))
-
-
-def _are_leaves(thing):
-    """Whether it is a number of leaves that a page may have; of anything."""
+def is_number(thing, least, most):
+    """Whether it is a number from the least to the most; of anything."""
     # To Python True is the number 1; here truths are no numbers.
     if not isinstance(thing, int) or isinstance(thing, bool):
         return False
-    return 1 <= thing <= MOST_LEAVES
+    return least <= thing <= most
+
+
+def are_leaves(thing):
+    """Whether it is a number of leaves that a page may have; of anything."""
+    return is_number(thing, 1, MOST_LEAVES)
+
+
+def rising_pair(one, other):
+    """The pair of two names, the lesser one ahead."""
+    return (min(one, other), max(one, other))
 
 
 def _are_pages(thing):
@@ -70,7 +75,7 @@ def _clean_leaves(leaves, pages):
         raise BadGroup(1)
     told = {}
     for row in rows:
-        if not is_pair(row) or row[0] not in pages or not _are_leaves(row[1]):
+        if not is_pair(row) or row[0] not in pages or not are_leaves(row[1]):
             raise BadGroup(1)
         if row[0] in told:
             raise BadGroup(1)

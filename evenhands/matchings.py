@@ -31,7 +31,7 @@ class Table:
             self._bars[(one, other)] = True
             self._bars[(other, one)] = True
         self._weights = {}
-        self.own_lots = tuple([self._lot_of(pages) for pages in group.state()])
+        self.own_lots = self.lots_of(group.state())
 
     def numbers_of(self, people):
         """The list of the numbers of these people."""
@@ -41,9 +41,13 @@ class Table:
         """The tuple of the people with these numbers."""
         return tuple([self._names[at] for at in numbers])
 
-    def _lot_of(self, pages):
-        """The lot of one who holds these pages."""
+    def lot_of(self, pages):
+        """The lot of one who holds these unlike pages."""
         return sum([1 << self._pages.index(page) for page in pages])
+
+    def lots_of(self, state):
+        """The lots that a state is."""
+        return tuple([self.lot_of(pages) for pages in state])
 
     def state_of(self, lots):
         """The state that these lots are."""
@@ -53,7 +57,7 @@ class Table:
         """The rising tuple of the pages of a lot."""
         return tuple([page for at, page in enumerate(self._pages) if (lot >> at) & 1 == 1])
 
-    def _weight_of(self, lot):
+    def weight_of(self, lot):
         """How many leaves the pages of a lot have together."""
         if lot not in self._weights:
             sizes = [size for at, size in enumerate(self._sizes) if (lot >> at) & 1 == 1]
@@ -65,10 +69,10 @@ class Table:
         lacking = [at for at, lot in enumerate(lots) if lot != self._full]
         if lacking == []:
             return []
-        least = min([self._weight_of(lots[at]) for at in lacking])
-        return [at for at in lacking if self._weight_of(lots[at]) == least]
+        least = min([self.weight_of(lots[at]) for at in lacking])
+        return [at for at in lacking if self.weight_of(lots[at]) == least]
 
-    def _joined(self, lots, one, other):
+    def joined(self, lots, one, other):
         """Whether these two may call, who weigh the same."""
         return lots[one] != lots[other] and (one, other) not in self._bars
 
@@ -83,7 +87,7 @@ class Table:
         one = left[0]
         found = []
         for other in left[1:]:
-            if self._joined(lots, one, other):
+            if self.joined(lots, one, other):
                 others = [at for at in left[1:] if at != other]
                 found.extend([((one, other), *more) for more in self._paired(lots, others)])
         return found
@@ -111,23 +115,23 @@ class Table:
         at = 0
         while at < len(piece):
             more = [other for other in left
-                    if other not in piece and self._joined(lots, piece[at], other)]
+                    if other not in piece and self.joined(lots, piece[at], other)]
             piece.extend(more)
             at += 1
         return sorted(piece)
 
-    def block(self, lots):
+    def least_block(self, lots):
         """None where the least ones have a matching, else the barrier of them."""
         if self.pairings(lots) != []:
             return None
         sets = _sets_of(self.lightest(lots))
         # By Tutte's theorem one of these is found: just such sets keep a matching away.
         at = 0
-        while not self._blocks(lots, sets[at]):
+        while not self.blocks(lots, sets[at]):
             at += 1
         return sets[at]
 
-    def _blocks(self, lots, some):
+    def blocks(self, lots, some):
         """Whether more parts of an odd number are left without these than they are."""
         odd = [piece for piece in self.pieces(lots, some) if len(piece) % 2 == 1]
         return len(odd) > len(some)
@@ -162,5 +166,5 @@ def parts(group, some):
 def barrier(group):
     """None where the least ones have a matching, else the least set that keeps one away."""
     table = Table(group)
-    some = table.block(table.own_lots)
+    some = table.least_block(table.own_lots)
     return None if some is None else table.named(some)

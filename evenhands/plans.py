@@ -116,7 +116,7 @@ def _paper(ways):
     """The dict from the states one comes to, rising, to their barriers, or None."""
     rows = {}
     for lots in ways.steps:
-        rows[ways.table.state_of(lots)] = ways.table.block(lots)
+        rows[ways.table.state_of(lots)] = ways.table.least_block(lots)
     paper = {}
     for state in sorted(rows):
         some = rows[state]

@@ -1,10 +1,11 @@
-"""What the document says of matchings and plans, worked out anew: slowly, and by groups alone."""
+"""What the document says from matchings on, worked out anew: slowly, and by groups alone."""
 
 from itertools import combinations
 from random import Random
 
 from evenhands.calls import behind, called, may
 from evenhands.groups import Group
+from evenhands.rising import rising
 
 
 def page_each(many):
@@ -132,3 +133,31 @@ def paper_of(group):
         rows[now.state()] = barrier_of(now)
         ahead.extend(behind(now, matching) for matching in matchings_of(now) if matching)
     return {state: rows[state] for state in sorted(rows)}
+
+
+def rows_from(group):
+    """A dict from the rising rows of all rows of even calls to the groups behind them."""
+    found = {(): group}
+    ahead = [()]
+    while ahead:
+        row = ahead.pop()
+        for pair in combinations(group.people(), 2):
+            if may(found[row], *pair):
+                longer = tuple(rising(group, [*row, pair]))
+                if longer not in found:
+                    found[longer] = called(found[row], *pair)
+                    ahead.append(longer)
+    return found
+
+
+def most_of(rows, person):
+    """What most should tell, of all rising rows and the groups behind them."""
+    best = min((-now.weight(person), len(row), row) for row, now in rows.items())
+    return (-best[0], list(best[2]))
+
+
+def together_of(rows, pages):
+    """What together should tell, of all rising rows and the groups behind them."""
+    groups = rows.values()
+    return [person for person in rows[()].people()
+            if any(set(pages) <= set(now.held(person)) for now in groups)]

@@ -9,7 +9,7 @@ from pathlib import Path
 PACKAGE = Path(__file__).resolve().parent.parent / "evenhands"
 
 # In the order of the stages: a file uses only those ahead of it.
-FILES = ("errors", "groups", "calls", "rising", "matchings", "plans")
+FILES = ("errors", "groups", "calls", "rising", "matchings", "plans", "judge", "rounds", "reach")
 FUNCTIONS = {
     "groups": {"is_name": "(thing)"},
     "calls": {
@@ -27,6 +27,9 @@ FUNCTIONS = {
     "plans": {
         "plan": "(group, *, by='calls')", "how_many": "(group)", "rounds_of": "(group, levels)",
     },
+    "judge": {"is_plan": "(group, thing)", "lets_by": "(group, thing)"},
+    "rounds": {"told_rounds": "(many)", "fewest_calls": "(many)", "round_group": "(many)"},
+    "reach": {"most": "(group, person)", "together": "(group, pages)"},
 }
 CLASSES = {
     "errors": {
