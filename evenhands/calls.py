@@ -1,7 +1,7 @@
 """Calls of two people, by which both come to hold all that both held."""
 
 from evenhands.errors import Barred, HandError, Idle, NoCall, Uneven
-from evenhands.groups import Group, is_list, is_pair, rising_pair
+from evenhands.groups import Group, all_held, all_leaves, is_list, is_pair, rising_pair
 
 
 def _leaves_beyond(group, pages, known):
@@ -35,12 +35,11 @@ def _check_even(group, one, other):
 def called(group, one, other):
     """The Group behind the call; refused as gain, then Idle, Uneven."""
     _check_even(group, one, other)
-    held = {person: group.held(person) for person in group.people()}
+    held = all_held(group)
     both = sorted(set(held[one] + held[other]))
     held[one] = both
     held[other] = both
-    leaves = {page: group.leaves(page) for page in group.pages()}
-    return Group(held, leaves=leaves, barred=group.barred())
+    return Group(held, leaves=all_leaves(group), barred=group.barred())
 
 
 def may(group, one, other):

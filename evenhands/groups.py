@@ -44,6 +44,11 @@ def rising_pair(one, other):
     return (min(one, other), max(one, other))
 
 
+def pairs_of(people):
+    """The rising list of all pairs of these people, a rising list."""
+    return [(one, other) for at, one in enumerate(people) for other in people[at + 1:]]
+
+
 def _are_pages(thing):
     """Whether it is a list of unlike names; of anything."""
     if not is_list(thing) or not all([is_name(page) for page in thing]):
@@ -154,3 +159,13 @@ class Group:
     def shared(self):
         """Whether all hold all."""
         return len(self.holders()) == len(self._held)
+
+
+def all_held(group):
+    """The dict from all people to the tuples of their pages."""
+    return {person: group.held(person) for person in group.people()}
+
+
+def all_leaves(group):
+    """The dict from all pages to how many leaves they have."""
+    return {page: group.leaves(page) for page in group.pages()}

@@ -12,6 +12,21 @@ def _sets_of(numbers):
     return sorted(sorted(sets), key=len)
 
 
+def all_behind(lots, steps):
+    """The list of all lots one comes to from these, and these.
+
+    Steps tells of lots the list of the pairs (calls, lots behind them).
+    """
+    found = {}
+    ahead = [lots]
+    while ahead:
+        now = ahead.pop()
+        if now not in found:
+            found[now] = True
+            ahead.extend([later for _, later in steps(now)])
+    return list(found)
+
+
 class Table:
     """A group in numbers, by which one goes through many states fast.
 

@@ -1,7 +1,7 @@
 """Plans by which all come to hold all, and the paper that there is none."""
 
 from evenhands.errors import NoCall, NoWay
-from evenhands.matchings import Table
+from evenhands.matchings import Table, all_behind
 
 CALLS = "calls"
 ROUNDS = "rounds"
@@ -23,28 +23,38 @@ class Ways:
 
     def __init__(self, group):
         self.table = Table(group)
-        self.steps = self._all_steps()
+        self._steps = {}
+        self._can_end = {}
         self._fewest = {}
         self._many = {}
         self._best = {}
 
-    def _all_steps(self):
-        """A dict from all lots one comes to, to the pairs (matching, lots behind it)."""
-        steps = {}
-        ahead = [self.table.own_lots]
-        while ahead:
-            lots = ahead.pop()
-            if lots not in steps:
-                # The matching of nobody, where all hold all, leads nowhere.
-                found = [matching for matching in self.table.pairings(lots) if matching != ()]
-                steps[lots] = [(matching, self.table.lots_behind(lots, matching))
-                               for matching in found]
-                ahead.extend([later for _, later in steps[lots]])
-        return steps
+    def steps(self, lots):
+        """The list of the pairs (matching, lots behind it) of the matchings of these lots."""
+        if lots not in self._steps:
+            # The matching of nobody, where all hold all, leads nowhere.
+            found = [matching for matching in self.table.pairings(lots) if matching != ()]
+            self._steps[lots] = [(matching, self.table.lots_behind(lots, matching))
+                                 for matching in found]
+        return self._steps[lots]
 
     def is_end(self, lots):
         """Whether all hold all."""
         return self.table.lightest(lots) == []
+
+    def can_end(self, lots):
+        """Whether there is a plan from these lots."""
+        if lots not in self._can_end:
+            self._can_end[lots] = self._can_end_now(lots)
+        return self._can_end[lots]
+
+    def _can_end_now(self, lots):
+        if self.is_end(lots):
+            return True
+        for _, later in self.steps(lots):
+            if self.can_end(later):
+                return True
+        return False
 
     def fewest(self, lots):
         """How few calls a plan from these lots takes, None where there is no plan."""
@@ -60,7 +70,7 @@ class Ways:
 
     def _good(self, lots):
         """The steps from these lots behind which there is a plan."""
-        return [step for step in self.steps[lots] if self.fewest(step[1]) is not None]
+        return [step for step in self.steps(lots) if self.fewest(step[1]) is not None]
 
     def many(self, lots):
         """How many plans from these lots there are."""
@@ -71,7 +81,7 @@ class Ways:
     def _many_now(self, lots):
         if self.is_end(lots):
             return 1
-        return sum([self.many(later) for _, later in self.steps[lots]])
+        return sum([self.many(later) for _, later in self.steps(lots)])
 
     def _steps_by(self, lots, by):
         """The steps from these lots that may lead to a best plan."""
@@ -115,7 +125,7 @@ def _named_matching(table, matching):
 def _paper(ways):
     """The dict from the states one comes to, rising, to their barriers, or None."""
     rows = {}
-    for lots in ways.steps:
+    for lots in all_behind(ways.table.own_lots, ways.steps):
         rows[ways.table.state_of(lots)] = ways.table.least_block(lots)
     paper = {}
     for state in sorted(rows):
@@ -134,6 +144,12 @@ def plan(group, *, by=CALLS):
         return ("none", _paper(ways))
     levels = ways.best(own, (0,) * len(group), by)[2]
     return ("plan", _named_levels(ways.table, levels))
+
+
+def has_plan(group):
+    """Whether there is a plan."""
+    ways = Ways(group)
+    return ways.can_end(ways.table.own_lots)
 
 
 def how_many(group):

@@ -2,7 +2,7 @@
 
 from evenhands.errors import NoPage
 from evenhands.groups import is_list
-from evenhands.matchings import Table
+from evenhands.matchings import Table, all_behind
 
 
 class Climb:
@@ -49,17 +49,6 @@ class Climb:
             later[one] = later[other] = lots[one] | lots[other]
         return tuple(later)
 
-    def all_lots(self):
-        """The list of all lots one comes to."""
-        found = {}
-        ahead = [self.table.own_lots]
-        while ahead:
-            lots = ahead.pop()
-            if lots not in found:
-                found[lots] = True
-                ahead.extend([later for _, later in self.steps(lots)])
-        return list(found)
-
 
 class Way:
     """The best rows for one person; what is told of the same lots is worked out once."""
@@ -102,6 +91,6 @@ def together(group, pages):
         group.leaves(page)
     climb = Climb(group)
     wanted = climb.table.lot_of(sorted(set(pages)))
-    everything = climb.all_lots()
+    everything = all_behind(climb.table.own_lots, climb.steps)
     return [person for at, person in enumerate(group.people())
             if any([(lots[at] & wanted) == wanted for lots in everything])]

@@ -1,6 +1,6 @@
 """What the document says from matchings on, worked out anew: slowly, and by groups alone."""
 
-from itertools import combinations
+from itertools import combinations, product
 from random import Random
 
 from evenhands.calls import behind, called, may
@@ -161,3 +161,72 @@ def together_of(rows, pages):
     groups = rows.values()
     return [person for person in rows[()].people()
             if any(set(pages) <= set(now.held(person)) for now in groups)]
+
+
+def with_written(group, row):
+    """The group in which people write so many pages each, a new one after the other."""
+    held = {person: list(group.held(person)) for person in group.people()}
+    letters = [letter for letter in "abcdefghijklmnopqrstuvwxyz" if letter not in group.pages()]
+    for person, many in zip(group.people(), row):
+        for _ in range(many):
+            held[person].append(letters.pop(0))
+    leaves = {page: group.leaves(page) for page in group.pages()}
+    return Group(held, leaves=leaves, barred=group.barred())
+
+
+def rows_of(many, total):
+    """The rising list of rows of so many numbers that come to the total."""
+    return sorted(row for row in product(range(total + 1), repeat=many) if sum(row) == total)
+
+
+def can_share(lots, sizes, barred=()):
+    """Whether by some even calls all come to hold all: lots are numbers, a bit for each page."""
+    weights = {}
+
+    def weight(lot):
+        if lot not in weights:
+            weights[lot] = sum(size for at, size in enumerate(sizes) if lot >> at & 1)
+        return weights[lot]
+
+    full = 0
+    for lot in lots:
+        full |= lot
+    seen = {tuple(lots)}
+    ahead = [tuple(lots)]
+    while ahead:
+        now = ahead.pop()
+        if all(lot == full for lot in now):
+            return True
+        for one, other in combinations(range(len(now)), 2):
+            even = now[one] != now[other] and weight(now[one]) == weight(now[other])
+            if even and (one, other) not in barred:
+                later = list(now)
+                later[one] = later[other] = now[one] | now[other]
+                if tuple(later) not in seen:
+                    seen.add(tuple(later))
+                    ahead.append(tuple(later))
+    return False
+
+
+def lots_of(group):
+    """The lots of the group's people, and the sizes of its pages."""
+    pages = group.pages()
+    lots = [sum(1 << pages.index(page) for page in group.held(person))
+            for person in group.people()]
+    return lots, [group.leaves(page) for page in pages]
+
+
+def writing_of(group, most):
+    """The least row of so few numbers that by these writings all can share; None beyond most."""
+    people = group.people()
+    barred = [tuple(people.index(person) for person in pair) for pair in group.barred()]
+    for total in range(most + 1):
+        for row in rows_of(len(group), total):
+            lots, sizes = lots_of(group)
+            for at, many in enumerate(row):
+                for _ in range(many):
+                    lots[at] |= 1 << len(sizes)
+                    sizes.append(1)
+            if can_share(lots, sizes, barred):
+                return dict(zip(people, row))
+    return None

@@ -9,7 +9,8 @@ from pathlib import Path
 PACKAGE = Path(__file__).resolve().parent.parent / "evenhands"
 
 # In the order of the stages: a file uses only those ahead of it.
-FILES = ("errors", "groups", "calls", "rising", "matchings", "plans", "judge", "rounds", "reach")
+FILES = ("errors", "groups", "calls", "rising", "matchings", "plans", "judge", "rounds", "reach",
+         "writing", "keeper", "texts", "desk")
 FUNCTIONS = {
     "groups": {"is_name": "(thing)"},
     "calls": {
@@ -30,6 +31,13 @@ FUNCTIONS = {
     "judge": {"is_plan": "(group, thing)", "lets_by": "(group, thing)"},
     "rounds": {"told_rounds": "(many)", "fewest_calls": "(many)", "round_group": "(many)"},
     "reach": {"most": "(group, person)", "together": "(group, pages)"},
+    "writing": {
+        "written": "(group, person, page, *, leaves=1)", "fresh": "(group)",
+        "mended": "(group, *, most=2)", "cure": "(group)", "by_pairs": "(group)",
+        "by_two": "(group)",
+    },
+    "keeper": {"sound": "(group)", "kept": "(group, log, *, watch=True)"},
+    "texts": {"group_text": "(group)", "read_group": "(text)"},
 }
 CLASSES = {
     "errors": {
@@ -48,6 +56,14 @@ CLASSES = {
             "shared": "(self)", "__len__": "(self)", "__eq__": "(self, other)",
         },
     },
+    "keeper": {
+        "Keeper": {
+            "__init__": "(self, group, *, watch=True)", "do": "(self, deed)",
+            "all_done": "(self, deeds)", "back": "(self)", "group": "(self)", "log": "(self)",
+            "twin": "(self)", "tries": "(self)",
+        },
+    },
+    "desk": {"Desk": {"__init__": "(self)", "say": "(self, row)"}},
 }
 
 
